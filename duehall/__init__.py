@@ -1,0 +1,1 @@
+"""Duehall: timed deeds, done by one runner of many."""

@@ -1,0 +1,46 @@
+"""The times that a plan has."""
+
+from duehall.checks import check_count, check_moment, check_plan, check_zone
+from duehall.zones import DAY_HOURS, first_showing, shown
+
+
+def first_day(zone, hour):
+    # Rounded up: an hour that the wall is past at moment 0 has its first time a day later.
+    return -((hour - shown(zone, 0)) // DAY_HOURS)
+
+
+def daily_time(zone, hour, count):
+    day = first_day(zone, hour) + count
+    return first_showing(zone, day * DAY_HOURS + hour)
+
+
+def time_of(zone, plan, count):
+    if plan[0] == "once":
+        return plan[1] if count == 0 else None
+    if plan[0] == "every":
+        return plan[1] + count * plan[2]
+    return daily_time(zone, plan[1], count)
+
+
+def due(zone, plan, count):
+    check_zone(zone)
+    check_plan(plan)
+    check_count(count)
+    return time_of(zone, plan, count)
+
+
+def dues(zone, plan, first, last):
+    check_zone(zone)
+    check_plan(plan)
+    check_moment(first)
+    check_moment(last)
+    found = []
+    count = 0
+    moment = time_of(zone, plan, count)
+    # The times of a plan never fall, so that the first one too late ends the walk.
+    while moment is not None and moment <= last:
+        if first <= moment:
+            found.append((count, moment))
+        count += 1
+        moment = time_of(zone, plan, count)
+    return found
