@@ -1,6 +1,6 @@
-"""What can be a zone, a moment, a plan or a count, and the refusal of what can not."""
+"""What can be a zone, a moment, a plan, a count, deeds, a runner or a term, and the refusal of what can not."""
 
-from duehall.errors import NoCount, NoMoment, NoPlan, NoZone
+from duehall.errors import NoCount, NoDeeds, NoMoment, NoPlan, NoRunner, NoTerm, NoZone
 
 LAST_MOMENT = 9999
 LAST_COUNT = 9999
@@ -9,6 +9,10 @@ LEAST_AHEAD = -12
 MOST_AHEAD = 14
 MOST_SHIFTS = 6
 MOST_STEP = 999
+MOST_DEEDS = 6
+MOST_WITHIN = 999
+LAST_RUNNER = 3
+MOST_TERM = 99
 
 
 def is_whole(thing, least, most):
@@ -59,6 +63,22 @@ def is_plan(thing):
     return has_word(thing, "daily", 2) and is_whole(thing[1], 0, LAST_HOUR)
 
 
+def is_late(thing):
+    if isinstance(thing, str):
+        return thing == "all" or thing == "last"
+    return has_word(thing, "within", 2) and is_whole(thing[1], 0, MOST_WITHIN)
+
+
+def is_deed(thing):
+    return is_tuple_of(thing, 3) and is_plan(thing[0]) and is_late(thing[1]) and isinstance(thing[2], bool)
+
+
+def are_deeds(thing):
+    if not isinstance(thing, tuple) or len(thing) > MOST_DEEDS:
+        return False
+    return all([is_deed(deed) for deed in thing])
+
+
 def check_zone(thing):
     if not is_zone(thing):
         raise NoZone("this is no zone")
@@ -77,3 +97,25 @@ def check_moment(thing):
 def check_count(thing):
     if not is_whole(thing, 0, LAST_COUNT):
         raise NoCount("this is no count of a time")
+
+
+def check_stretch(first, last):
+    check_moment(first)
+    check_moment(last)
+    if last < first:
+        raise NoMoment("the last moment is less than the first one")
+
+
+def check_deeds(thing):
+    if not are_deeds(thing):
+        raise NoDeeds("these are no deeds")
+
+
+def check_runner(thing):
+    if not is_whole(thing, 0, LAST_RUNNER):
+        raise NoRunner("this is no runner")
+
+
+def check_term(thing):
+    if not is_whole(thing, 1, MOST_TERM):
+        raise NoTerm("this is no term")

@@ -1,7 +1,7 @@
 """The times that a plan has."""
 
 from duehall.checks import check_count, check_moment, check_plan, check_zone
-from duehall.zones import DAY_HOURS, first_showing, shown
+from duehall.zones import DAY_HOURS, first_showing, furthest_shown, shown
 
 
 def first_day(zone, hour):
@@ -20,6 +20,18 @@ def time_of(zone, plan, count):
     if plan[0] == "every":
         return plan[1] + count * plan[2]
     return daily_time(zone, plan[1], count)
+
+
+def times_by(zone, plan, moment):
+    # What is due ahead of moment 0 is asked for, too: there the wall has shown nothing yet.
+    if moment < 0:
+        return 0
+    if plan[0] == "once":
+        return 1 if plan[1] <= moment else 0
+    if plan[0] == "every":
+        return max(0, (moment - plan[1]) // plan[2] + 1)
+    last_day = (furthest_shown(zone, moment) - plan[1]) // DAY_HOURS
+    return last_day - first_day(zone, plan[1]) + 1
 
 
 def due(zone, plan, count):

@@ -48,6 +48,15 @@ def first_showing(zone, hours):
     return reached[0]
 
 
+def furthest_shown(zone, moment):
+    # Put back, the wall shows less again; what it showed at most, up to there, stays the most.
+    return max([
+        (moment if is_ahead_of(moment, end) else end - 1) + ahead
+        for start, end, ahead in stretches(zone)
+        if start <= moment
+    ])
+
+
 def wall(zone, moment):
     check_zone(zone)
     check_moment(moment)

@@ -1,9 +1,14 @@
-"""What several tests draw on: zones, and things of many kinds that are none, nor plans, moments or counts."""
+"""What several tests draw on: zones, deeds, and things of many kinds that are none, nor plans, moments or counts."""
 
 PLAIN = (0, ())
 # Forward by 1 at 100, back by 3 at 200.
 SHIFTED = (1, ((100, 2), (200, -1)))
 SIX = (3, ((10, 4), (20, 3), (30, -12), (31, 14), (32, 14), (40, 0)))
+# At 11 the wall shows hour 23 of day -1, at 12 hour 2 of day 1: two times of one plan come at 12.
+LEAPING = (-12, ((12, 14),))
+
+ONE = ((("every", 2, 5), "all", True),)
+MIXED = ((("once", 5), "all", False), (("every", 3, 4), "last", True), (("daily", 7), ("within", 6), False))
 
 
 def hours_shown(zone, moment):
@@ -14,6 +19,50 @@ def hours_shown(zone, moment):
 def random_zone(chance, latest):
     starts = sorted(chance.sample(range(1, latest), chance.randint(0, 6)))
     return (chance.randint(-12, 14), tuple((start, chance.randint(-12, 14)) for start in starts))
+
+
+def random_plan(chance, latest):
+    return chance.choice((("once", chance.randint(0, latest)), ("daily", chance.randint(0, 23)),
+                          ("every", chance.randint(0, latest), chance.randint(1, 30))))
+
+
+def random_deeds(chance, latest):
+    lates = ("all", "last", ("within", chance.choice((0, 1, 5, 20))))
+    return tuple((random_plan(chance, latest), chance.choice(lates), chance.random() < 0.5)
+                 for _ in range(chance.randint(0, 6)))
+
+
+def walked_times(zone, plan, latest):
+    """The moments of all times of a plan up to a latest moment, found by walking moment by moment."""
+    if plan[0] == "once":
+        return [plan[1]] if plan[1] <= latest else []
+    if plan[0] == "every":
+        return list(range(plan[1], latest + 1, plan[2]))
+    goal = -1 * 24 + plan[1]
+    while goal < hours_shown(zone, 0):
+        goal += 24
+    told = []
+    for moment in range(latest + 1):
+        while hours_shown(zone, moment) >= goal:
+            told.append(moment)
+            goal += 24
+    return told
+
+
+def walked_rows(zone, deeds, first, last):
+    """The calendar, found by walking moment by moment."""
+    rows = []
+    for number, deed in enumerate(deeds):
+        for count, moment in enumerate(walked_times(zone, deed[0], last)):
+            if first <= moment:
+                rows.append((moment, number, count))
+    return sorted(rows)
+
+
+def all_told(hall):
+    """All that a hall tells without a call."""
+    states = [hall.state(deed, count) for deed in range(len(hall.waiting())) for count in range(20)]
+    return (hall.held(), hall.log(), hall.waiting(), states, hall.saved())
 
 
 class Plain:
@@ -74,3 +123,27 @@ def no_plans():
     plans += [("every", 5, thing) for thing in no_wholes(1, 999)]
     plans += [("daily", thing) for thing in no_wholes(0, 23)]
     return plans
+
+
+def is_empty_tuple(thing):
+    return isinstance(thing, tuple) and len(thing) == 0
+
+
+def no_lates():
+    lates = odd_things() + [0, 10 ** 30, "All", "all ", "first", "within", ("all",), ("last",), ["all"], b"all"]
+    lates += [("within",), ("within", 5, 5), ["within", 5], ("Within", 5), (b"within", 5), (Touchy(), 5), (5, "within")]
+    lates += [("within", thing) for thing in no_wholes(0, 999)]
+    return lates
+
+
+def no_deeds():
+    good = (("once", 5), "all", True)
+    deeds = [thing for thing in odd_things() if not is_empty_tuple(thing)] + [0, 10 ** 30]
+    deeds += [[good], [], good, (good,) * 7, (list(good),), (good[:2],), (good + (1,),), (good, None), ((),)]
+    deeds += [(good, thing) for thing in odd_things()]
+    deeds += [((plan, "all", True),) for plan in no_plans()]
+    deeds += [((("once", 5), late, True),) for late in no_lates()]
+    deeds += [((("once", 5), "all", again),) for again in odd_things() if again is not True and again is not False]
+    deeds += [((("once", 5), "all", again),) for again in (0, 1, 2, -1, "True")]
+    deeds += [(good, good, (("once", 5), "all", 1)), (("all", ("once", 5), True),)]
+    return deeds

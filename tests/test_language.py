@@ -22,6 +22,9 @@ setdefault split splitlines startswith strip update upper values zfill bit_lengt
 OUT_WORDS = """type typing typing_extensions enum Enum IntEnum StrEnum Flag IntFlag Generic Protocol ABC ABCMeta
 namedtuple NamedTuple TypedDict TYPE_CHECKING abstractmethod""".split()
 OUT_NAMES = """register mro elements open input version_info with_traceback add_note format format_map""".split()
+# No value of an object is called like these, nor like what Python's own values have, but for the ones behind.
+KINDS = (str, int, list, dict, set, bytes, tuple)
+FREE_VALUES = "count index title find get join lower upper split strip copy add".split()
 TWO_UNDERSCORES = ("__init__", "__eq__", "__repr__", "__str__", "__len__")
 
 
@@ -42,6 +45,25 @@ def bound_names(path):
     names = [node.id for node in walk(path, ast.Name) if isinstance(node.ctx, ast.Store)]
     names += [node.arg for node in walk(path, ast.arg)]
     return names + [node.name for node in walk(path, ast.FunctionDef, ast.ClassDef)]
+
+
+def given_values(path):
+    return {node.attr for node in walk(path, ast.Attribute) if isinstance(node.ctx, ast.Store)}
+
+
+def own_methods(path):
+    return {node.name for made in walk(path, ast.ClassDef) for node in made.body if isinstance(node, ast.FunctionDef)}
+
+
+def docstrings(path):
+    return [node.name for node in walk(path, ast.FunctionDef, ast.ClassDef) if ast.get_docstring(node) is not None]
+
+
+def walked_lazily(path):
+    """Calls of range and its like that are assigned or given back, not walked on the spot."""
+    kept = [node.value for node in walk(path, ast.Assign, ast.Return)]
+    return [node for node in kept if isinstance(node, ast.Call) and isinstance(node.func, ast.Name)
+            and node.func.id in ("range", "zip", "enumerate", "reversed", "set")]
 
 
 class Language(unittest.TestCase):
@@ -120,6 +142,47 @@ class Language(unittest.TestCase):
             for node in walk(path, ast.Attribute):
                 self.assertIn(node.attr, own | set(METHODS))
                 self.assertNotIn(node.attr, OUT_NAMES)
+
+    def test_values_and_methods_of_objects(self):
+        values = set().union(*[given_values(path) for path in files()])
+        methods = set().union(*[own_methods(path) for path in files()])
+        self.assertEqual(values & methods, set())
+        for name in values - set(FREE_VALUES):
+            self.assertFalse(any(hasattr(kind, name) for kind in KINDS), name)
+        for name in methods - set(TWO_UNDERSCORES) - set(METHODS) - {"add", "discard"}:
+            self.assertFalse(any(hasattr(kind, name) for kind in KINDS), name)
+
+    def test_classes(self):
+        for path in files():
+            for made in walk(path, ast.ClassDef):
+                self.assertLessEqual(len(made.bases), 1)
+                for node in made.body:
+                    self.assertIsInstance(node, (ast.FunctionDef, ast.Pass))
+
+    def test_remarks_stand_at_the_top_of_files_alone(self):
+        for path in files():
+            self.assertEqual(docstrings(path), [])
+
+    def test_walked_at_once(self):
+        for path in files():
+            self.assertEqual(walked_lazily(path), [])
+
+    def test_is_stands_beside_none_true_and_false_alone(self):
+        for path in files():
+            for node in walk(path, ast.Compare):
+                for operator, right in zip(node.ops, node.comparators):
+                    if isinstance(operator, (ast.Is, ast.IsNot)):
+                        self.assertIsInstance(right, ast.Constant)
+                        self.assertIn(right.value, (None, True, False))
+
+    def test_no_local_is_called_like_an_import_or_a_class(self):
+        for path in files():
+            taken = {name.asname or name.name for node in walk(path, ast.ImportFrom) for name in node.names}
+            taken |= {node.name for node in walk(path, ast.ClassDef)}
+            for node in walk(path, ast.Name):
+                self.assertFalse(isinstance(node.ctx, ast.Store) and node.id in taken, node.id)
+            for node in walk(path, ast.arg):
+                self.assertNotIn(node.arg, taken)
 
 
 if __name__ == "__main__":
