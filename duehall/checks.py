@@ -32,6 +32,14 @@ def is_moment(thing):
     return is_whole(thing, 0, LAST_MOMENT)
 
 
+def is_runner(thing):
+    return is_whole(thing, 0, LAST_RUNNER)
+
+
+def is_term(thing):
+    return is_whole(thing, 1, MOST_TERM)
+
+
 def are_shifts(thing):
     if not isinstance(thing, tuple) or len(thing) > MOST_SHIFTS:
         return False
@@ -112,10 +120,10 @@ def check_deeds(thing):
 
 
 def check_runner(thing):
-    if not is_whole(thing, 0, LAST_RUNNER):
+    if not is_runner(thing):
         raise NoRunner("this is no runner")
 
 
 def check_term(thing):
-    if not is_whole(thing, 1, MOST_TERM):
+    if not is_term(thing):
         raise NoTerm("this is no term")
